@@ -1,0 +1,1 @@
+"""Courtscore: matches of points, games and sets, and who is ahead."""
