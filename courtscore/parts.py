@@ -11,28 +11,16 @@ def common_divisor(one, other):
     return abs(one)
 
 
+def common_multiple(one, other):
+    return one // common_divisor(one, other) * other
+
+
 def fraction(top, bottom):
     divisor = common_divisor(top, bottom)
     # The sign belongs to the top, so a bottom below nought turns both.
     if bottom < 0:
         divisor = -divisor
     return (top // divisor, bottom // divisor)
-
-
-def plus(one, other):
-    return fraction(one[0] * other[1] + other[0] * one[1], one[1] * other[1])
-
-
-def times(one, other):
-    return fraction(one[0] * other[0], one[1] * other[1])
-
-
-def divided(one, other):
-    return fraction(one[0] * other[1], one[1] * other[0])
-
-
-def rest(part):
-    return (part[1] - part[0], part[1])
 
 
 def refuse_bad_part(part):

@@ -6,6 +6,7 @@ MOST_POINTS = 5
 MOST_GAMES = 6
 MOST_SETS = 3
 LEAD = 2
+MATCH_LEAD = 1
 NOUGHT = (0, 0)
 
 
@@ -45,10 +46,10 @@ def after(rules, standing, who):
     if winner(rules, standing) is not None:
         raise Over("the match is won, and no point comes behind it")
     points = one_more(standing[2], who)
-    if not is_won(points, rules.points()):
+    if not is_won(points, rules.points(), LEAD):
         return (standing[0], standing[1], points)
     games = one_more(standing[1], who)
-    if not is_won(games, rules.games()):
+    if not is_won(games, rules.games(), LEAD):
         return (standing[0], games, NOUGHT)
     return (one_more(standing[0], who), NOUGHT, NOUGHT)
 
@@ -66,14 +67,14 @@ def one_more(pair, who):
     return (pair[0], pair[1] + 1)
 
 
-def is_won(pair, goal):
-    return max(pair) >= goal and abs(pair[0] - pair[1]) >= LEAD
+def is_won(pair, goal, lead):
+    return max(pair) >= goal and abs(pair[0] - pair[1]) >= lead
 
 
 def goes_on(pair, goal):
     # A pair that isn't won is always led to: taking turns, the lead stays below two up to any height,
     # and a greater lead stands below the goal, where nothing ahead of it was won either.
-    return min(pair) >= 0 and not is_won(pair, goal)
+    return min(pair) >= 0 and not is_won(pair, goal, LEAD)
 
 
 def is_reached(rules, standing):

@@ -14,6 +14,8 @@ BUILTINS = set(
     "len range enumerate zip min max sum abs sorted reversed int str bool list tuple dict set isinstance ord repr any"
     " all divmod Exception ValueError TypeError KeyError IndexError LookupError ZeroDivisionError ArithmeticError"
     " OverflowError RuntimeError NotImplementedError AttributeError StopIteration".split())
+# Those of L25 that the package has a use for.
+OWN_METHODS = set("append join reverse split zfill".split())
 METHODS = {"__init__", "__eq__", "__repr__", "__str__", "__len__"}
 NODES = set(
     "Module ImportFrom alias FunctionDef ClassDef Lambda arguments arg Assign AugAssign If While For Return Break"
@@ -56,6 +58,36 @@ class Language(unittest.TestCase):
                         self.assertNotIsInstance(node.value, (float, bytes, complex))
                     if isinstance(node, ast.Assign):
                         self.assertEqual(len(node.targets), 1)
+                        self.assertNotIsInstance(node.targets[0], (ast.Tuple, ast.List))
+                    if isinstance(node, ast.ListComp):
+                        self.assertEqual(len(node.generators), 1)
+                        self.assertLessEqual(len(node.generators[0].ifs), 1)
+
+    def test_what_stands_by_itself_is_a_call_or_a_file_s_docstring(self):
+        for file in FILES:
+            first = ast.parse(file.read_text("utf-8")).body[0]
+            for node in nodes(file):
+                if isinstance(node, ast.Expr) and node.lineno != first.lineno:
+                    with self.subTest(file=file.name, line=node.lineno):
+                        self.assertIsInstance(node.value, ast.Call)
+
+    def test_methods_are_the_package_s_own_or_listed(self):
+        own = {node.name for file in FILES for node in nodes(file) if isinstance(node, ast.FunctionDef)}
+        for file in FILES:
+            for node in nodes(file):
+                if isinstance(node, ast.Call) and isinstance(node.func, ast.Attribute):
+                    with self.subTest(file=file.name, line=node.lineno):
+                        self.assertIn(node.func.attr, own | OWN_METHODS)
+
+    def test_no_local_is_called_like_a_class_or_an_import_of_its_file(self):
+        for file in FILES:
+            all_nodes = nodes(file)
+            taken = {node.name for node in all_nodes if isinstance(node, (ast.alias, ast.ClassDef))}
+            for node in all_nodes:
+                if isinstance(node, ast.arg):
+                    self.assertNotIn(node.arg, taken)
+                if isinstance(node, ast.Name) and isinstance(node.ctx, ast.Store):
+                    self.assertNotIn(node.id, taken)
 
     def test_imports_are_the_package_s_own(self):
         for file in FILES:
